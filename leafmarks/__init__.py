@@ -1,0 +1,1 @@
+"""Leafmarks: places of reading on several devices and in several editions."""
