@@ -26,7 +26,7 @@ class TestTold(LeafCase):
     def test_8_what_an_edition_tells(self):
         work = Work("w", ["d", "a", "c", "b"])
         edition = Edition(work, ["a", "b"])
-        self.assertIs(edition.work, work)
+        self.assert_equal_things(edition.work, work)
         self.assert_same(edition.passages(), ["a", "b"])
         self.assert_same(len(edition), 2)
 

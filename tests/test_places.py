@@ -35,7 +35,7 @@ class TestMade(LeafCase):
             numbers = numbers_of(edition)
             for count in range(len(edition) + 1):
                 place = Place(edition, count)
-                self.assertIs(place.edition, edition)
+                self.assert_equal_things(place.edition, edition)
                 self.assert_same(place.count, count)
                 self.assert_same(place.cut, numbers[count - 1] + 1 if count else 0)
                 self.assert_same(place.cut, edition.cut_behind(count))
@@ -96,7 +96,7 @@ class TestCompared(LeafCase):
 class TestMoved(LeafCase):
     def assert_moved(self, place, origin, count):
         self.assertIs(type(place), Place)
-        self.assertIs(place.edition, origin.edition)
+        self.assert_equal_things(place.edition, origin.edition)
         self.assert_same(place.count, count)
 
     def test_12_on_and_back_to_both_ends(self):
@@ -174,7 +174,7 @@ class TestSeen(LeafCase):
             for edition in all_editions(work_of(3)):
                 seen = place.seen(edition)
                 self.assertIs(type(seen), Place)
-                self.assertIs(seen.edition, edition)
+                self.assert_equal_things(seen.edition, edition)
                 ahead = [number for number in numbers_of(edition) if number < place.cut]
                 self.assert_same(seen.count, len(ahead))
                 self.assert_same(seen.cut, plain_kernel(numbers_of(edition), place.cut))
@@ -186,7 +186,7 @@ class TestSeen(LeafCase):
         edition = edition_of(work, [0, 3])
         place = Place(edition, 2)
         place.seen(Edition(work, []))
-        self.assertIs(place.edition, edition)
+        self.assert_equal_things(place.edition, edition)
         self.assert_same(place.count, 2)
 
     def test_13_of_unequal_works(self):

@@ -75,7 +75,7 @@ class TestTold(LeafCase):
                 self.assertIs(type(told), list)
                 self.assertEqual(len(told), len(rows))
                 for one, other in zip(told, editions):
-                    self.assertIs(one, other)
+                    self.assert_equal_things(one, other)
                 self.assert_same(walk.table(), plain_table(rows, length))
                 for cut in range(length + 1):
                     self.assert_same(walk(cut), plain_walk(rows, cut))
@@ -96,7 +96,7 @@ class TestTold(LeafCase):
     def test_14_editions_of_equal_works(self):
         edition = edition_of(work_of(3), [0, 2])
         walk = Walk(work_of(3), [edition])
-        self.assertIs(walk.editions()[0], edition)
+        self.assert_equal_things(walk.editions()[0], edition)
         self.assert_same(walk.table(), [0, 1, 1, 3])
 
 

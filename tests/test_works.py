@@ -28,7 +28,7 @@ class TestTold(LeafCase):
         for length in (1, 2, 7):
             work = work_of(length)
             self.assertIs(type(work.whole()), Edition)
-            self.assertIs(work.whole().work, work)
+            self.assert_equal_things(work.whole().work, work)
             self.assert_same(work.whole().passages(), letters(length))
             self.assert_equal_things(work.whole(), Edition(work, letters(length)))
 
