@@ -1,4 +1,4 @@
-"""What several files need: kinds of plain values, and searches in the order of lists."""
+"""What several files need: kinds of plain values, lines, ranks, and searches in the order of lists."""
 
 LETTERS = "abcdefghijklmnopqrstuvwxyz"
 LONGEST_WORD = 8
@@ -24,6 +24,18 @@ def is_word(x):
     if not isinstance(x, str):
         return False
     return 1 <= len(x) <= LONGEST_WORD and all([sign in LETTERS for sign in x])
+
+
+def lines_of(text):
+    """Return the lines of a text, each with its line feed, if it has one."""
+    *lines, rest = text.split("\n")
+    whole = [f"{line}\n" for line in lines]
+    return whole if rest == "" else [*whole, rest]
+
+
+def ranks_of(numbers):
+    """Return the ranks of numbers, from 0 on, by the numbers."""
+    return {number: rank for rank, number in enumerate(sorted(set(numbers)))}
 
 
 def picked(rows, numbers):
