@@ -83,7 +83,7 @@ class Rule:
         return [row[at] for row in self.rows]
 
     def __eq__(self, other):
-        return isinstance(other, Rule) and self.rows == other.rows and self.show() == other.show()
+        return isinstance(other, Rule) and self.rows == other.rows and self.way == other.way and self.at == other.at
 
 
 def require_fields(fields):

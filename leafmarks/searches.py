@@ -42,47 +42,48 @@ class Search:
         """Return a state as its deeds find it."""
         return spread(state) if self.is_ranked else state
 
+    def steps_from(self, state):
+        """Return all deeds that can be done in a state, each with the state and the list of the faults behind it."""
+        origin = self.origin(state)
+        steps = []
+        for deed in self.deeds_in(origin, state[0], self.kinds):
+            after, faults = self.space.behind(origin, deed)
+            steps.append((deed, ranked(after) if self.is_ranked else after, faults))
+        return steps
+
     def faulty_deed(self, state):
         """Return a deed that shows the fault in a state, or None."""
         origin = self.origin(state)
         for deed in self.deeds_in(origin, state[0], self.faulty_kinds):
-            if self.space.behind(origin, deed)[1] != []:
+            if len(self.space.behind(origin, deed)[1]) > 0:
                 return deed
         return None
-
-    def ways_from(self, state):
-        """Return all deeds that can be done in a state, each with the state behind it."""
-        origin = self.origin(state)
-        ways = []
-        for deed in self.deeds_in(origin, state[0], self.kinds):
-            after = self.space.behind(origin, deed)[0]
-            ways.append((deed, ranked(after) if self.is_ranked else after))
-        return ways
 
     def answer(self, word, most):
         """Return ("run", a shortest history that shows the fault), or the word and all states, if there is none."""
         ahead = {self.space.beginning(): None}
         level = list(ahead)
         while len(level) > 0:
-            # A fault at the next deed counts before more states do.
+            following = []
             for state in level:
-                deed = self.faulty_deed(state)
+                # Where there are too many states, a fault at the next deed still counts, but no state behind it.
+                deed = self.faulty_deed(state) if len(ahead) > most else self.followed(ahead, state, following)
                 if deed is not None:
                     return "run", self.history_to(ahead, state, deed)
-            level = self.next_level(ahead, level, most)
+            if len(ahead) > most:
+                raise TooMany(most)
+            level = following
         return word, sorted(set(ahead))
 
-    def next_level(self, ahead, level, most):
-        """Put the states that one more deed leads to into those that have one ahead, and return them."""
-        following = []
-        for state in level:
-            for deed, after in self.ways_from(state):
-                if after not in ahead:
-                    ahead[after] = (state, deed)
-                    following.append(after)
-                    if len(ahead) > most:
-                        raise TooMany(most)
-        return following
+    def followed(self, ahead, state, following):
+        """Put the new states behind one into two collections; or return a deed that shows the fault in it."""
+        for deed, after, faults in self.steps_from(state):
+            if len(faults) > 0:
+                return deed
+            if after not in ahead:
+                ahead[after] = (state, deed)
+                following.append(after)
+        return None
 
     def history_to(self, ahead, state, deed):
         """Return the history that leads to a state, and the deed behind it."""
@@ -107,9 +108,7 @@ class Search:
         if self.space.beginning() not in known:
             return False
         for state in known:
-            if self.faulty_deed(state) is not None:
-                return False
-            for deed, after in self.ways_from(state):
-                if after not in known:
+            for deed, after, faults in self.steps_from(state):
+                if len(faults) > 0 or after not in known:
                     return False
         return True

@@ -161,6 +161,8 @@ def shows_of(rules):
 
 def stamps_led(stamps, device):
     """Return the stamps when a device's has become later than all others."""
+    if len(stamps) == 0:
+        return ()
     # Ranks are below their number.
     top = len(stamps)
     return dense([top if at == device else stamp for at, stamp in enumerate(stamps)])
