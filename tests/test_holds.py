@@ -19,29 +19,25 @@ def without(*kinds):
 
 
 class TestStates(LeafCase):
-    def test_31_equal_states_go_on_alike(self):
+    def test_31_each_history_leads_to_states_that_are_told(self):
         chance = random.Random(31)
-        for turn in range(60):
-            rule, many = drawn_rule(chance, 1), 1 + turn % 2
-            fault = FAULTS[turn % 4]
-            known = {}
-            for _ in range(25):
-                telling = Telling([rule], many)
-                for deed in drawn_history(chance, [rule], many, chance.randint(0, 8), 3):
-                    telling.do(deed)
-                known.setdefault(telling.state(fault), []).append(telling)
-            for alike in known.values():
-                if len(alike) > 1:
-                    self.assertEqual(self.ways(alike[0], fault), self.ways(alike[1], fault))
-
-    def ways(self, telling, fault):
-        """What the deeds in a state lead to."""
-        ways = set()
-        for deed in telling.deeds(KINDS):
-            after = telling.copy()
-            shows = fault in after.do(deed)
-            ways.add((deed[0], deed[1], shows, after.state(fault)))
-        return ways
+        met = 0
+        for turn in range(120):
+            rule, fault, many = drawn_rule(chance, 1), FAULTS[turn % 4], 1 + turn % 2
+            setting = chance.choice([many, [work_of(3).whole()] * many])
+            try:
+                word, states = judged(rule, fault, setting, most=700)
+            except TooMany:
+                continue
+            if word == "never":
+                met += 1
+                known = {state: True for state in states}
+                for _ in range(5):
+                    telling = Telling([rule], setting)
+                    for deed in drawn_history(chance, [rule], setting, 15, 4):
+                        telling.do(deed)
+                        self.assertIn(telling.state(fault), known)
+        self.assertGreater(met, 20)
 
 
 class TestDevices(LeafCase):
