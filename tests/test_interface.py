@@ -6,7 +6,10 @@ import inspect
 import pathlib
 import unittest
 
+from leafmarks import histories, judging
 from leafmarks.places import Place
+from leafmarks.rules import Rule
+from leafmarks.shelves import Device, Shelf
 from leafmarks.walks import Walk
 from leafmarks.works import Edition, Work
 from tests.helpers import FIELDS, work_of
@@ -18,6 +21,10 @@ NAMES = {
     "works": ["Work", "Edition"],
     "places": ["Place"],
     "walks": ["Walk", "crossing", "mended"],
+    "rules": ["Rule"],
+    "histories": ["played", "faults", "history_text", "read_history"],
+    "judging": ["judged", "is_run", "is_never", "rules_parted", "needed"],
+    "shelves": ["Shelf", "Device"],
 }
 
 METHODS = {
@@ -67,6 +74,23 @@ METHODS = {
         "__le__",
         "__eq__",
     ],
+    Rule: ["fields", "show", "text", "__eq__", "of_text", "furthest", "latest", "newest", "inrow"],
+    Shelf: ["__getitem__", "__setitem__", "works", "device"],
+    Device: [
+        "part",
+        "place",
+        "shown",
+        "places",
+        "marks",
+        "jump",
+        "show",
+        "read",
+        "anew",
+        "give",
+        "take",
+        "away",
+        "is_away",
+    ],
 }
 
 ARGUMENTS = [
@@ -83,6 +107,27 @@ ARGUMENTS = [
     (Walk.parted, ["self", "other"]),
     (Walk.rest, ["self", "cut"]),
     (Walk.turns, ["self", "cut"]),
+    (Rule, ["fields", "show"]),
+    (Rule.of_text, ["text"]),
+    (Rule.furthest, []),
+    (Rule.latest, []),
+    (Rule.newest, []),
+    (Rule.inrow, []),
+    (histories.played, ["rule", "setting", "history"]),
+    (histories.faults, ["rule", "setting", "history"]),
+    (histories.history_text, ["history"]),
+    (histories.read_history, ["text"]),
+    (judging.judged, ["rule", "fault", "setting", "deeds", "most"]),
+    (judging.is_run, ["rule", "fault", "setting", "history", "deeds"]),
+    (judging.is_never, ["rule", "fault", "setting", "states", "deeds"]),
+    (judging.rules_parted, ["one", "other", "setting", "deeds", "most"]),
+    (judging.needed, ["rule", "fault", "setting", "deeds", "most"]),
+    (Shelf, ["rule"]),
+    (Shelf.device, ["self", "editions"]),
+    (Device.jump, ["self", "place"]),
+    (Device.show, ["self", "edition"]),
+    (Device.read, ["self", "passages"]),
+    (Device.away, ["self", "work", "things"]),
 ]
 
 
@@ -113,8 +158,25 @@ class TestInterface(unittest.TestCase):
             for name in names:
                 self.assertIn(name, vars(kind), kind)
 
-    def test_the_cut_of_a_place_is_a_property(self):
+    def test_properties(self):
         self.assertIsInstance(vars(Place)["cut"], property)
+        for name in ("part", "place", "shown"):
+            self.assertIsInstance(vars(Device)[name], property)
+
+    def test_class_and_static_methods(self):
+        self.assertIsInstance(vars(Rule)["of_text"], classmethod)
+        for name in ("furthest", "latest", "newest", "inrow"):
+            self.assertIsInstance(vars(Rule)[name], staticmethod)
+
+    def test_defaults_behind_a_star(self):
+        deeds = ("read", "jump", "anew", "give", "take")
+        for name in NAMES["judging"]:
+            parameters = inspect.signature(getattr(judging, name)).parameters
+            self.assertEqual(parameters["deeds"].default, deeds)
+            told = [parameters[behind].kind for behind in ("deeds", "most") if behind in parameters]
+            self.assertEqual(set(told), {inspect.Parameter.KEYWORD_ONLY})
+            if name not in ("is_run", "is_never"):
+                self.assertEqual(parameters["most"].default, 5000)
 
     def test_arguments_have_their_names(self):
         for thing, names in ARGUMENTS:
@@ -137,6 +199,9 @@ class TestInterface(unittest.TestCase):
             self.assertEqual(place.edition, edition)
             self.assertEqual((place.count, place.cut), (0, 0))
         self.assertEqual(work.name, "w")
+        shelf = Shelf(Rule.latest())
+        self.assertEqual(shelf.rule, Rule.latest())
+        self.assertIs(shelf.device([work.whole()]).shelf, shelf)
 
 
 class TestImports(unittest.TestCase):
