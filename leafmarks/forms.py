@@ -26,8 +26,8 @@ def is_state(thing, space):
 
 
 def are_numbers(part):
-    """Tell whether any object is a list of integers from 0 on."""
-    return is_row(part) and all([is_number(x) and x >= 0 for x in part])
+    """Tell whether any object is a list of integers."""
+    return is_row(part) and all([is_number(x) for x in part])
 
 
 def is_ascending(numbers):

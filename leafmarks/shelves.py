@@ -56,9 +56,7 @@ class Shelf:
 
     def put(self, work, mark):
         """Keep a mark for a work, in the place of the one that was kept."""
-        key = (work.name, work.words)
-        first = self.kept[key][0] if key in self.kept else work
-        self.kept[key] = (first, mark)
+        self.kept[(work.name, work.words)] = (work, mark)
 
     def next_stamp(self):
         """Return a stamp that is later than all others."""

@@ -264,6 +264,18 @@ class TestForms(LeafCase):
         for values, told in (((0, 1, 0, 1), True), ((1, 2, 1, 1), True), ((0, 2, 0, 1), True), ((0, 2, 0, 2), False)):
             self.assert_form(told, "lost", 1, (values, (), ()))
 
+    def test_33_values_with_gaps_beside_the_ranks_that_they_lead_to(self):
+        for wrong, right in (((2, 2, 2), (1, 1, 1)), ((0, 2, 0), (0, 1, 0)), ((2, 5, 3), (1, 3, 2)), ((0, 1, 3), (0, 1, 2))):
+            states = [((0, 0, 0), (), ()), (right, (), ())]
+            self.assert_true(is_never(self.rule(), "back", 1, states, deeds=["give"]))
+            self.assert_false(is_never(self.rule(), "back", 1, states + [(wrong, (), ())], deeds=["give"]))
+        states = [((0, 0, 0), (), (0,)), ((1, 1, 2), (), (2,))]
+        self.assert_true(is_never(self.rule(), "nobody", 1, states, deeds=["give"]))
+        self.assert_false(is_never(self.rule(), "nobody", 1, states + [((1, 1, 2), (), (2, 3))], deeds=["give"]))
+        stamps = [((0, 0, 0), row, ()) for row in ((0, 0), (0, 1))]
+        self.assert_true(is_never(self.rule(True), "back", 1, stamps, deeds=["give"]))
+        self.assert_false(is_never(self.rule(True), "back", 1, stamps + [((0, 0, 0), (0, 2), ())], deeds=["give"]))
+
     def test_33_values_are_cuts_and_the_editions_stand_at_the_places(self):
         work = work_of(4)
         setting = [edition_of(work, [0, 2]), edition_of(work, [3])]

@@ -93,6 +93,31 @@ class TestLanguage(unittest.TestCase):
             used = {node.id for node in ast.walk(tree) if isinstance(node, ast.Name)}
             self.assertEqual((used & set(dir(builtins))) - set(BUILTINS), set(), name)
 
+    def test_l15_no_local_name_is_that_of_an_import_or_a_class(self):
+        for name, _, tree in files():
+            barred = [node.name for node in tree.body if isinstance(node, ast.ClassDef)]
+            barred += [alias.name for node in tree.body if isinstance(node, ast.ImportFrom) for alias in node.names]
+            self.assertEqual(len(barred), len(set(barred)), name)
+            for node in functions(tree):
+                inner = [part.id for part in ast.walk(node) if isinstance(part, ast.Name) and isinstance(part.ctx, ast.Store)]
+                inner += [part.arg for part in ast.walk(node) if isinstance(part, ast.arg)]
+                self.assertEqual(set(inner) & set(barred), set(), (name, node.name))
+
+    def test_l5_what_is_sorted_is_plain(self):
+        # Works, editions and places compare: only what certainly holds none of them is sorted.
+        for name, _, tree in files():
+            for node in ast.walk(tree):
+                if isinstance(node, ast.Call) and isinstance(node.func, ast.Name) and node.func.id in ("sorted", "min", "max"):
+                    kinds = [part.func.id for part in node.args if isinstance(part, ast.Call) and isinstance(part.func, ast.Name)]
+                    kinds += ["int" for part in node.args if isinstance(part, ast.Constant)]
+                    self.assertTrue(set(kinds) & {"set", "int", "len"}, (name, node.lineno))
+
+    def test_l4_and_l5_decorators(self):
+        for name, _, tree in files():
+            for node in functions(tree):
+                for told in node.decorator_list:
+                    self.assertIn(told.id, ("property", "staticmethod", "classmethod"), name)
+
     def test_l20_is(self):
         for name, _, tree in files():
             for node in ast.walk(tree):
