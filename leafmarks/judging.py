@@ -7,7 +7,7 @@ from leafmarks.forms import are_states, plain_states
 from leafmarks.rules import Rule
 from leafmarks.searches import Search
 from leafmarks.settings import require_setting
-from leafmarks.spaces import FAULTS, PARTED, Space, steps_of
+from leafmarks.spaces import FAULTS, Space, steps_of
 
 
 def judged(rule, fault, setting, *, deeds=KINDS, most=5000):
@@ -36,7 +36,7 @@ def rules_parted(one, other, setting, *, deeds=KINDS, most=5000):
     """Return ("run", a shortest history behind which the rules show unlike places), or ("alike", the states)."""
     require_setting(setting)
     require_kinds(deeds)
-    word, told = Search(Space([one, other], setting, (PARTED,)), deeds).answer("alike", most)
+    word, told = Search(Space([one, other], setting, ()), deeds).answer("alike", most)
     if word == "run":
         return word, told
     return word, [(values, stamps) for values, stamps, come in told]
@@ -44,7 +44,6 @@ def rules_parted(one, other, setting, *, deeds=KINDS, most=5000):
 
 def needed(rule, fault, setting, *, deeds=KINDS, most=5000):
     """Return the names of as few fields as can be kept so that no history has the fault, or None."""
-    require_question(fault, setting, deeds)
     fields, show = rule.fields(), rule.show()
     for chosen in choices_with(rule.at, len(fields)):
         kept = picked(fields, chosen)

@@ -5,7 +5,7 @@ from leafmarks.deeds import KINDS, LEADING, floor_of, greater, place_shown, valu
 from leafmarks.settings import floors_of
 
 FAULTS = ("back", "ahead", "nobody", "lost")
-# The fault of two rules that are held against each other.
+# What two rules side by side do when they show unlike places; it is always watched.
 PARTED = "parted"
 
 
@@ -138,7 +138,7 @@ class Space:
             floors = self.floors[device]
             if there not in [floor_of(floors, cut) for cut in come]:
                 faults.append("nobody")
-        if PARTED in self.watched and places != [there] * len(places):
+        if places != [there] * len(places):
             faults.append(PARTED)
         return faults
 
