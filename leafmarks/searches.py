@@ -26,27 +26,27 @@ class Search:
         floors = self.space.floors[device]
         return [cut for cut in range(len(floors)) if floors[cut] == cut]
 
-    def deeds_in(self, origin, values, kinds):
-        """Return the deeds of some kinds that can be done in a state, whose values are the origin's as they are."""
+    def deeds_in(self, state, origin, kinds):
+        """Return the deeds of some kinds that can be done in a state, told in the places of its origin."""
         deeds = []
         for device in range(len(self.space.floors)):
             here = origin[0][device * self.space.width]
             leading = [kind for kind in kinds if kind in LEADING]
-            targets = self.targets(device, values) if len(leading) > 0 else []
+            targets = self.targets(device, state[0]) if len(leading) > 0 else []
             for kind in leading:
                 deeds.extend([(kind, device, there) for there in targets if kind == "jump" or there > here])
             deeds.extend([(kind, device) for kind in kinds if kind not in LEADING])
         return deeds
 
     def origin(self, state):
-        """Return a state as its deeds find it."""
+        """Return a state with its values as the places to which deeds lead, with room for new ones."""
         return spread(state) if self.is_ranked else state
 
     def steps_from(self, state):
         """Return all deeds that can be done in a state, each with the state and the list of the faults behind it."""
         origin = self.origin(state)
         steps = []
-        for deed in self.deeds_in(origin, state[0], self.kinds):
+        for deed in self.deeds_in(state, origin, self.kinds):
             after, faults = self.space.behind(origin, deed)
             steps.append((deed, ranked(after) if self.is_ranked else after, faults))
         return steps
@@ -54,7 +54,7 @@ class Search:
     def faulty_deed(self, state):
         """Return a deed that shows the fault in a state, or None."""
         origin = self.origin(state)
-        for deed in self.deeds_in(origin, state[0], self.faulty_kinds):
+        for deed in self.deeds_in(state, origin, self.faulty_kinds):
             if len(self.space.behind(origin, deed)[1]) > 0:
                 return deed
         return None
